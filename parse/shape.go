@@ -92,9 +92,10 @@ func isName(s string) bool {
 	return true
 }
 
-// path is the nodes that the next one may stand in, from the outermost on, and the last node itself: one of each Depth from 1 on.
+// path is the nodes that the next one may stand in, from the outermost on, and the last node itself: one of each Depth from 1 on. It has room for the deepest tree, and for the node that is too deep.
 type path struct {
-	open    []holder
+	open    [api.MaxNest + 1]holder
+	depth   int  // of the last node
 	started bool // a statement was there, so declarations have ended
 }
 
@@ -118,7 +119,7 @@ func (h holder) next() sort {
 
 // wants tells whether something is wanting in a node of the path, from one on.
 func (p *path) wants(from int) bool {
-	for _, h := range p.open[from:] {
+	for _, h := range p.open[from:p.depth] {
 		if h.held < int(rules[h.kind].wanting) {
 			return true
 		}
@@ -129,7 +130,7 @@ func (p *path) wants(from int) bool {
 // put lets a node stand behind those that are there, or tells that it can't.
 func (p *path) put(n api.Node) bool {
 	above := n.Depth - 1
-	if above < 0 || above > len(p.open) || p.wants(above) || !p.takes(above, rules[n.Kind].sort) {
+	if above < 0 || above > p.depth || p.wants(above) || !p.takes(above, rules[n.Kind].sort) {
 		return false
 	}
 	if above > 0 {
@@ -137,7 +138,8 @@ func (p *path) put(n api.Node) bool {
 	} else {
 		p.started = p.started || rules[n.Kind].sort == statement
 	}
-	p.open = append(p.open[:above], holder{kind: n.Kind})
+	p.open[above] = holder{kind: n.Kind}
+	p.depth = n.Depth
 	return true
 }
 
