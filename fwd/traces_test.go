@@ -2,7 +2,6 @@ package fwd
 
 import (
 	"math"
-	"slices"
 	"testing"
 
 	"winnow/api"
@@ -202,61 +201,4 @@ func TestNestedByHand(t *testing.T) {
 	any := num.Top()
 	fast := api.Table{vars(any, from(0)), vars(any, from(0)), vars(from(2), from(0)), vars(any, in(0, 1)), vars(any, from(2))}
 	wantRun(t, p, api.Config{Cap: 1}, zeros(t, p), nil, fast, 27)
-}
-
-// made is a flow that tells by the table whether it is the first one or a narrower one, and counts what it is asked.
-func made(first, later api.Table, asked *[]int) flow {
-	return func(t api.Table, v int) api.Env {
-		*asked = append(*asked, v)
-		if t[0].Vars[0] == in(0, 9) {
-			return first[v]
-		}
-		return later[v]
-	}
-}
-
-// P22.1: a narrower table that isn't held by itself isn't taken, and ends the narrowing; what comes by it is worked out for all vertices, whatever the earlier ones told. (Of the edges of programs none is known that makes more of less, so that the flow is made here.)
-func TestNarrowerButNotHeld(t *testing.T) {
-	wide, small, other := filled(4, vars(in(0, 9))), filled(4, vars(in(0, 5))), vars(in(0, 7))
-	round := []int{0, 1, 2, 3}
-	for _, places := range [][]int{{0}, {1}, {2}, {3}, {0, 3}, {0, 1, 2, 3}} {
-		later := small
-		for _, v := range places {
-			later = except(later, v, other)
-		}
-		for times := range api.MaxNarrow + 1 {
-			var asked []int
-			got := narrowed(wide, times, made(small, later, &asked))
-			if tellTable(got) != tellTable(wide) {
-				t.Errorf("P22.1: a table that isn't held at %v is taken: %v", places, got)
-			}
-			want := slices.Concat(round, round)
-			if times == 0 {
-				want = nil
-			}
-			if !slices.Equal(asked, want) {
-				t.Errorf("P22.1: narrowed %d times, what isn't held at %v: asked %v", times, places, asked)
-			}
-		}
-	}
-}
-
-// P22.1: a narrower table that is held is taken; the next time ends, as it is the same.
-func TestNarrowerAndHeld(t *testing.T) {
-	wide, small := filled(4, vars(in(0, 9))), filled(4, vars(in(0, 5)))
-	for times, rounds := range []int{0, 2, 3, 3} {
-		var asked []int
-		got := narrowed(wide, times, made(small, small, &asked))
-		want := small
-		if times == 0 {
-			want = wide
-		}
-		if tellTable(got) != tellTable(want) || len(asked) != 4*rounds {
-			t.Errorf("P22.1: narrowed %d times: %v, asked %v", times, got, asked)
-		}
-	}
-	var asked []int
-	if got := narrowed(wide, 3, made(wide, small, &asked)); tellTable(got) != tellTable(wide) || len(asked) != 4 {
-		t.Errorf("P22.1: what is the same is asked again: %v, %v", got, asked)
-	}
 }
